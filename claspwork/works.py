@@ -1,6 +1,6 @@
 """Works: a tuple with a number for each end, the end it is clasped to, or itself where it is loose."""
 
-from claspwork.errors import BadWork
+from claspwork.errors import BadWork, Unlike
 
 MOST_STAVES = 40
 
@@ -25,6 +25,11 @@ def is_end(number, ends):
 
 def staves_in(work):
     return len(work) // 2
+
+
+def refuse_unlike(one, other):
+    if len(one) != len(other):
+        raise Unlike("the two works have not as many staves")
 
 
 def far_end(end):

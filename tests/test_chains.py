@@ -5,20 +5,7 @@ import unittest
 from claspwork.chains import rings_in, rows_in, work_from
 from claspwork.errors import BadWork
 from claspwork.works import loose_ends, plain_work, staves_in
-from tests.helper import FAR, MIXED, RefusingCase, great_works, small_works
-
-
-def told_backward(chain):
-    return tuple(end ^ 1 for end in reversed(chain))
-
-
-def tellings(ring):
-    """All tuples that tell the same ring: from each stave on, in both ways."""
-    told = []
-    for way in (tuple(ring), told_backward(ring)):
-        for place in range(len(way)):
-            told.append(way[place:] + way[:place])
-    return told
+from tests.helper import FAR, MIXED, RefusingCase, great_works, small_works, tellings, told_backward
 
 
 class RowsAndRings(unittest.TestCase):

@@ -37,6 +37,13 @@ EXPRESSIONS = (
     ast.JoinedStr, ast.FormattedValue, ast.Constant, ast.Attribute, ast.Subscript, ast.Name, ast.List, ast.Tuple,
     ast.Slice,
 )
+BARRED_VALUES = set(
+    "items keys values pop update append clear extend insert remove reverse setdefault sort args encode format".split()
+)
+KEYWORDS = {
+    "sorted": ("key", "reverse"), "min": ("key", "default"), "max": ("key", "default"), "sum": ("start",),
+    "enumerate": ("start",), "zip": ("strict",),
+}
 PLAIN_NAME = re.compile(r"[A-Za-z][A-Za-z0-9_]*")
 
 
@@ -115,6 +122,44 @@ def def_faults(node):
             yield "L5"
 
 
+def call_faults(node):
+    if isinstance(node, ast.Call):
+        called = node.func.id if isinstance(node.func, ast.Name) else getattr(node.func, "attr", "")
+        pythons = called in BUILTINS | METHODS
+        if pythons and any(keyword.arg not in KEYWORDS.get(called, ()) for keyword in node.keywords):
+            yield "L22"
+    if isinstance(node, ast.FormattedValue):
+        # 114 is the sign r of a plain {name!r}.
+        if not isinstance(node.value, ast.Name) or node.format_spec or node.conversion not in (-1, 114):
+            yield "L7"
+    if isinstance(node, ast.BinOp) and isinstance(node.op, ast.Pow) and not isinstance(node.right, ast.Constant):
+        yield "L27"
+    if isinstance(node, ast.Attribute) and isinstance(node.ctx, ast.Store) and node.attr in BARRED_VALUES:
+        yield "L26"
+
+
+def hidden_names(tree):
+    """L15: parameters and locals that are called like a class or an import of their file."""
+    tops = {node.name for node in tree.body if isinstance(node, ast.ClassDef)}
+    tops |= {alias.name for node in tree.body if isinstance(node, ast.ImportFrom) for alias in node.names}
+    for node in ast.walk(tree):
+        if isinstance(node, (ast.Name, ast.arg)) and bound_name(node) in tops:
+            yield "L15", node.lineno
+
+
+def names_of_both_kinds(trees):
+    """L18: names that are a method in one class and a value of an object in some class."""
+    methods = set()
+    values = set()
+    for tree in trees:
+        for node in ast.walk(tree):
+            if isinstance(node, ast.ClassDef):
+                methods |= {inner.name for inner in node.body if isinstance(inner, ast.FunctionDef)}
+            if isinstance(node, ast.Attribute) and isinstance(node.ctx, ast.Store):
+                values.add(node.attr)
+    return sorted(methods & values)
+
+
 def bound_name(node):
     if isinstance(node, ast.Name) and isinstance(node.ctx, ast.Store):
         return node.id
@@ -154,9 +199,10 @@ def own_names_of(trees):
 
 def faults_in(text, own_names=frozenset()):
     tree = ast.parse(text)
-    found = list(text_faults(text)) + list(top_faults(tree))
+    found = list(text_faults(text)) + list(top_faults(tree)) + list(hidden_names(tree))
     for node in ast.walk(tree):
-        rules = list(node_faults(node)) + list(def_faults(node)) + list(name_faults(node, own_names))
+        rules = list(node_faults(node)) + list(def_faults(node)) + list(call_faults(node))
+        rules += name_faults(node, own_names)
         found.extend((rule, getattr(node, "lineno", 0)) for rule in rules)
     return found
 
@@ -180,6 +226,9 @@ class PackageForm(unittest.TestCase):
         own_names = own_names_of(self.trees.values())
         for path in self.files:
             self.assertEqual(faults_in(path.read_text("ascii"), own_names), [], path.name)
+
+    def test_no_name_is_a_method_and_a_value(self):
+        self.assertEqual(names_of_both_kinds(self.trees.values()), [])
 
     def test_names_are_drawn_from_the_file_that_defines_them(self):
         for tree in self.trees.values():
@@ -216,9 +265,20 @@ class FaultsAreFound(unittest.TestCase):
             ("L19", "def told(a):\n    try:\n        a()\n    except Exception:\n        pass\n"),
             ("L20", "def told(a, b):\n    return a is b\n"),
             ("L25", "def told(a):\n    a.sort()\n"), ("L27", "sign = '%'\n"),
+            ("L7", "def told(a):\n    return f'{a[0]}'\n"), ("L7", "def told(a):\n    return f'{a:3}'\n"),
+            ("L15", "from claspwork.works import far_end\n\n\ndef told(far_end):\n    return far_end\n"),
+            ("L22", "def told(a):\n    return a.split(sep='-')\n"),
+            ("L26", "class Kept:\n    def __init__(self):\n        self.items = []\n"),
+            ("L27", "def told(n):\n    return 2 ** n\n"),
         )
         for rule, text in wrong:
             self.assertIn(rule, [found for found, line in faults_in(text)], text)
+
+    def test_a_name_of_both_kinds_is_found(self):
+        one = "class One:\n    def done(self):\n        return 0\n"
+        other = "class Other:\n    def __init__(self):\n        self.done = 0\n"
+        self.assertEqual(names_of_both_kinds([ast.parse(one), ast.parse(other)]), ["done"])
+        self.assertEqual(names_of_both_kinds([ast.parse(one)]), [])
 
 
 if __name__ == "__main__":

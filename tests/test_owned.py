@@ -4,26 +4,56 @@ import copy
 import unittest
 
 from claspwork.chains import rings_in, rows_in, work_from
+from claspwork.deeds import all_deeds, deed_back, deed_kind, deed_to, fits_work, reclasped, told_deed
+from claspwork.journal import Journal, clasp_by_clasp, deeds_text, read_deeds, works_along
+from claspwork.laid import apart_by, thread_score, threads
+from claspwork.notes import read_work, work_text
 from claspwork.works import clasps_of, loose_ends, made_work, moved_work, plain_work, staves_in, work_by
 from tests.helper import MIXED, refusal_of
 
+CLOSED = (4, 5, 6, 7, 0, 1, 2, 3, 9, 8)
+CUT = (4, 1, 6, 7, 0, 5, 2, 3, 9, 8)
+
+# A call, what is handed in, and what is told.
 HANDED = (
-    (made_work, [list(MIXED)]),
-    (work_by, [5, [[9, 8], [3, 7], [5, 1], [2, 6]]]),
-    (moved_work, [MIXED, [0, 2, 4, 6, 8]]),
-    (work_from, [[[0, 5]], [[2, 7], [8]]]),
+    (made_work, [list(MIXED)], MIXED),
+    (work_by, [5, [[9, 8], [3, 7], [5, 1], [2, 6]]], MIXED),
+    (moved_work, [MIXED, [0, 2, 4, 6, 8]], MIXED),
+    (work_from, [[[0, 5]], [[2, 7], [8]]], MIXED),
+    (works_along, [MIXED, [(0, 4), (5, 5)]], [MIXED, CLOSED, CUT]),
+    (deeds_text, [[(0, 4), (5, 5)]], "0-4 5"),
 )
 REFUSED = (
     (made_work, [[1, 0, 3, 1]]),
     (work_by, [5, [[0, 1], [2, 3], [3, 4]]]),
     (moved_work, [MIXED, [0, 2, 4, 6, 7]]),
     (work_from, [[[0, 5], [2]], [[7], [4]]]),
+    (works_along, [MIXED, [(0, 4), (5, 5), (0, 4)]]),
 )
+# A call, what it is asked, and what is told: a list each time.
 ASKED = (
-    (clasps_of, [(1, 5), (2, 6), (3, 7), (8, 9)]),
-    (loose_ends, [0, 4]),
-    (rows_in, [(0, 5)]),
-    (rings_in, [(2, 7), (8,)]),
+    (clasps_of, [MIXED], [(1, 5), (2, 6), (3, 7), (8, 9)]),
+    (loose_ends, [MIXED], [0, 4]),
+    (rows_in, [MIXED], [(0, 5)]),
+    (rings_in, [MIXED], [(2, 7), (8,)]),
+    (all_deeds, [(3, 2, 1, 0)], [(0, 0), (0, 1), (0, 2), (1, 1)]),
+    (works_along, [MIXED, [(0, 4), (5, 5)]], [MIXED, CLOSED, CUT]),
+    (clasp_by_clasp, [CUT, MIXED], [(1, 5), (0, 0)]),
+    (read_deeds, ["0-4 5"], [(0, 4), (5, 5)]),
+    (threads, [(0, 2, 1, 3), (1, 0, 2, 3)], [("odd", (0, 1, 2)), ("odd", (3,))]),
+)
+# Calls that tell a text, a number or a tuple, which cannot be changed.
+TOLD = (
+    (work_text, [MIXED], "[0 -2] (1 -3) (4)"),
+    (read_work, ["[0 -2] (1 -3) (4)"], MIXED),
+    (fits_work, [MIXED, (0, 4)], True),
+    (reclasped, [MIXED, (0, 4)], CLOSED),
+    (told_deed, [MIXED, (5, 5)], (1, 1)),
+    (deed_to, [MIXED, CLOSED], (0, 4)),
+    (deed_back, [MIXED, (0, 4)], (0, 0)),
+    (deed_kind, [MIXED, (0, 4)], "closed"),
+    (thread_score, [MIXED, CLOSED], 8),
+    (apart_by, [MIXED, CLOSED], 1),
 )
 
 
@@ -37,9 +67,9 @@ def spoil(value):
 
 class WhatIsHandedIn(unittest.TestCase):
     def test_it_is_not_changed(self):
-        for call, handed in HANDED:
+        for call, handed, wanted in HANDED + ASKED + TOLD:
             given = copy.deepcopy(handed)
-            self.assertEqual(call(*given), MIXED)
+            self.assertEqual(call(*given), wanted)
             self.assertEqual(given, handed)
 
     def test_it_is_not_changed_where_it_is_refused(self):
@@ -49,34 +79,46 @@ class WhatIsHandedIn(unittest.TestCase):
             self.assertEqual(given, handed)
 
     def test_it_is_not_kept(self):
-        for call, handed in HANDED:
+        for call, handed, wanted in HANDED:
             given = copy.deepcopy(handed)
             told = call(*given)
             spoil(given)
-            self.assertEqual(told, MIXED)
-            self.assertEqual(call(*copy.deepcopy(handed)), MIXED)
+            self.assertEqual(told, wanted)
+            self.assertEqual(call(*copy.deepcopy(handed)), wanted)
 
     def test_a_refusal_changes_nothing_told_later(self):
         for call, handed in REFUSED:
             refusal_of(call, *copy.deepcopy(handed))
-        for call, handed in HANDED:
-            self.assertEqual(call(*copy.deepcopy(handed)), MIXED)
+        for call, handed, wanted in HANDED:
+            self.assertEqual(call(*copy.deepcopy(handed)), wanted)
 
 
 class WhatIsTold(unittest.TestCase):
     def test_changing_it_changes_nothing_told_later(self):
-        for ask, told in ASKED:
-            first = ask(MIXED)
+        for ask, asked, told in ASKED:
+            first = ask(*asked)
             self.assertEqual(first, told)
             spoil(first)
-            self.assertEqual(ask(MIXED), told)
+            self.assertEqual(ask(*asked), told)
 
     def test_nothing_asked_later_changes_it(self):
-        first = [ask(MIXED) for ask, told in ASKED]
-        for ask, told in ASKED:
-            spoil(ask(MIXED))
+        first = [ask(*asked) for ask, asked, told in ASKED]
+        for ask, asked, told in ASKED + TOLD:
+            spoil(ask(*asked))
+        for ask in (clasps_of, loose_ends, rows_in, rings_in, all_deeds, work_text):
             ask(plain_work(3))
-        self.assertEqual(first, [told for ask, told in ASKED])
+        self.assertEqual(first, [told for ask, asked, told in ASKED])
+
+    def test_what_journals_do_changes_nothing_told_elsewhere(self):
+        first = [ask(*asked) for ask, asked, told in ASKED]
+        journal = Journal(MIXED)
+        journal.do((0, 4))
+        journal.do((5, 5))
+        spoil(journal.deeds())
+        spoil(journal.works())
+        journal.back()
+        self.assertEqual(journal.works(), [MIXED, CLOSED])
+        self.assertEqual(first, [told for ask, asked, told in ASKED])
 
     def test_the_same_is_told_each_time(self):
         for staves in (0, 1, 5, 40):
