@@ -8,12 +8,9 @@ from claspwork.errors import BadDeed, Unlike
 from claspwork.notes import read_work
 from claspwork.works import made_work, plain_work
 from tests.helper import (
-    FAR, MIXED, RefusingCase, all_pairs, all_works, great_works, plain_behind, plain_deeds, plain_fit, small_works,
-    wrong_pairs,
+    FAR, LOOSE, MIXED, OWN_RINGS, RefusingCase, all_pairs, all_works, great_works, plain_behind, plain_deeds,
+    plain_fit, small_works, wrong_pairs,
 )
-
-LOOSE = tuple(range(80))
-OWN_RINGS = tuple(end ^ 1 for end in range(80))
 
 # How many rows and rings more there are behind a deed of each kind.
 CHANGES = {

@@ -4,12 +4,16 @@ import unittest
 
 from claspwork import errors
 from claspwork.chains import work_from
+from claspwork.counted import fewest_many, on_way, works_on_way
 from claspwork.deeds import deed_back, deed_kind, deed_to, reclasped, told_deed
+from claspwork.fewest import fewest_deeds, judged_paper, nearer_deeds, paper_for
 from claspwork.journal import Journal, clasp_by_clasp, read_deeds, works_along
 from claspwork.laid import apart_by, thread_score, threads
 from claspwork.notes import read_work
+from claspwork.numbered import number_of_row, row_numbered
+from claspwork.turns import made_row, row_seen, turn_about, walk_turns
 from claspwork.works import made_work, moved_work, work_by
-from tests.helper import FAR, RefusingCase, refusal_of
+from tests.helper import FAR, LOOSE, OWN_RINGS, RefusingCase, refusal_of
 
 REFUSALS = (
     "BadWork", "BadDeed", "BadRow", "BadStretch", "BadTree", "Unlike",
@@ -73,10 +77,40 @@ class RefusalsOfEachStage(RefusingCase):
 
     def test_unlike(self):
         asked = (deed_to, clasp_by_clasp, threads, thread_score, apart_by)
-        self.assert_all_refused(errors.Unlike, [(call, (0, 1), ()) for call in asked])
+        asked += (nearer_deeds, fewest_deeds, paper_for, fewest_many, works_on_way)
+        calls = [(call, (0, 1), ()) for call in asked]
+        # Also where another refusal is due, which is told later.
+        calls += [(judged_paper, (0, 1), (), ((), ((FAR, 0),))), (on_way, (), (), (0, 1)), (row_seen, (), (1,))]
+        calls += [(row_numbered, LOOSE, (), -1), (number_of_row, LOOSE, (), [(-1, FAR)])]
+        self.assert_all_refused(errors.Unlike, calls)
+
+    def test_too_many(self):
+        calls = [(call, LOOSE, OWN_RINGS) for call in (fewest_many, works_on_way)]
+        # Here, too, with others that are told later.
+        calls += [(row_numbered, LOOSE, OWN_RINGS, -1), (number_of_row, LOOSE, OWN_RINGS, [(-1, FAR)])]
+        self.assert_all_refused(errors.TooMany, calls)
 
     def test_no_such(self):
-        self.assert_all_refused(errors.NoSuch, [(Journal((0, 1)).back,), (Journal((0, 1)).again,)])
+        calls = [(Journal((0, 1)).back,), (Journal((0, 1)).again,)]
+        calls += [(row_numbered, (0, 1), (1, 0), number) for number in (-FAR, -1, 1, FAR)]
+        self.assert_all_refused(errors.NoSuch, calls)
+
+    def test_no_paper(self):
+        laid = (("bare", (0, 1)),)
+        papers = (((), ()), (laid, ()), (laid, ((0, 0),)), (laid, ((FAR, 0),)), ((), ((0, 1),)))
+        self.assert_all_refused(errors.NoPaper, [(judged_paper, (0, 1), (1, 0), paper) for paper in papers])
+
+    def test_bad_row(self):
+        rows = ([], [(0, 0)], [(1, 0)], [(0, 1), (0, 0)], [(FAR, -FAR)])
+        calls = [(number_of_row, (0, 1), (1, 0), row) for row in rows]
+        calls += [(made_row, numbers) for numbers in ([0], [2], [1, -1], [FAR], [-FAR, 1], list(range(1, 42)))]
+        self.assert_all_refused(errors.BadRow, calls)
+
+    def test_bad_stretch(self):
+        wrong = ((-1, 0), (1, 0), (0, 2), (2, 2), (-FAR, FAR), (FAR, FAR))
+        calls = [(turn_about, (1, 2), first, last) for first, last in wrong]
+        calls += [(walk_turns, (1, 2), [(0, 1), turn]) for turn in wrong]
+        self.assert_all_refused(errors.BadStretch, calls + [(turn_about, (), 0, 0)])
 
 
 if __name__ == "__main__":

@@ -11,11 +11,10 @@ from claspwork.journal import Journal, clasp_by_clasp, deeds_text, read_deeds, w
 from claspwork.notes import read_work
 from claspwork.works import clasps_of, plain_work, staves_in, work_by
 from tests.helper import (
-    FAR, MIXED, RefusingCase, all_works, great_works, plain_behind, plain_fit, refusal_of, small_works, wrong_pairs,
+    FAR, LOOSE, MIXED, OWN_RINGS, RefusingCase, all_works, great_works, plain_behind, plain_fit, refusal_of,
+    small_works, wrong_pairs,
 )
 
-LOOSE = tuple(range(80))
-OWN_RINGS = tuple(end ^ 1 for end in range(80))
 NUMBER = "(?:0|[1-9][0-9]*)"
 DEEDS = re.compile(rf"{NUMBER}(?:-{NUMBER})?(?: {NUMBER}(?:-{NUMBER})?)*")
 

@@ -7,10 +7,10 @@ from claspwork.errors import Unlike
 from claspwork.laid import apart_by, thread_score, threads
 from claspwork.notes import read_work
 from claspwork.works import plain_work, staves_in, work_by
-from tests.helper import MIXED, RefusingCase, all_works, great_works, plain_deeds, small_works, some_work
+from tests.helper import (
+    LOOSE, MIXED, OWN_RINGS, RefusingCase, all_works, deeds_needed, great_works, plain_deeds, small_works, some_work,
+)
 
-LOOSE = tuple(range(80))
-OWN_RINGS = tuple(end ^ 1 for end in range(80))
 # What a thread of each kind adds to the score.
 WORTH = {"ring": 2, "odd": 1, "bare": 0, "tied": 0}
 
@@ -25,21 +25,6 @@ def some_pairs():
     works = great_works()
     pairs += itertools.product(works, works[::3])
     return pairs
-
-
-def deeds_needed(start):
-    """How many deeds lead from a work to each work of its staves, found by trying."""
-    needed = {start: 0}
-    fresh = [start]
-    while fresh:
-        behind = []
-        for work in fresh:
-            for onward in plain_deeds(work):
-                if onward not in needed:
-                    needed[onward] = needed[work] + 1
-                    behind.append(onward)
-        fresh = behind
-    return needed
 
 
 class Threads(RefusingCase):

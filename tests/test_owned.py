@@ -4,15 +4,23 @@ import copy
 import unittest
 
 from claspwork.chains import rings_in, rows_in, work_from
+from claspwork.counted import fewest_many, on_way, works_on_way
 from claspwork.deeds import all_deeds, deed_back, deed_kind, deed_to, fits_work, reclasped, told_deed
+from claspwork.fewest import fewest_deeds, judged_paper, nearer_deeds, paper_for
 from claspwork.journal import Journal, clasp_by_clasp, deeds_text, read_deeds, works_along
 from claspwork.laid import apart_by, thread_score, threads
 from claspwork.notes import read_work, work_text
+from claspwork.numbered import number_of_row, row_numbered
+from claspwork.turns import made_row, plain_row, row_seen, turn_about, turns_all, walk_turns
 from claspwork.works import clasps_of, loose_ends, made_work, moved_work, plain_work, staves_in, work_by
 from tests.helper import MIXED, refusal_of
 
 CLOSED = (4, 5, 6, 7, 0, 1, 2, 3, 9, 8)
 CUT = (4, 1, 6, 7, 0, 5, 2, 3, 9, 8)
+# Two works with a bare and a tied thread, and their paper.
+TIED = (1, 0, 2, 3)
+BARE = (0, 1, 3, 2)
+PAPER = ((("tied", (0, 1)), ("bare", (2, 3))), ((0, 0), (2, 3)))
 
 # A call, what is handed in, and what is told.
 HANDED = (
@@ -22,6 +30,9 @@ HANDED = (
     (work_from, [[[0, 5]], [[2, 7], [8]]], MIXED),
     (works_along, [MIXED, [(0, 4), (5, 5)]], [MIXED, CLOSED, CUT]),
     (deeds_text, [[(0, 4), (5, 5)]], "0-4 5"),
+    (number_of_row, [TIED, BARE, [(2, 3), (0, 0)]], 5),
+    (made_row, [[3, -1, 2]], (3, -1, 2)),
+    (walk_turns, [(3, -1, 2), [(0, 1), (1, 2)]], [(1, -3, 2), (1, -2, 3)]),
 )
 REFUSED = (
     (made_work, [[1, 0, 3, 1]]),
@@ -29,6 +40,11 @@ REFUSED = (
     (moved_work, [MIXED, [0, 2, 4, 6, 7]]),
     (work_from, [[[0, 5], [2]], [[7], [4]]]),
     (works_along, [MIXED, [(0, 4), (5, 5), (0, 4)]]),
+    (number_of_row, [TIED, BARE, [(2, 3), (1, 1)]]),
+    (row_numbered, [TIED, BARE, 6]),
+    (judged_paper, [TIED, BARE, (PAPER[0], PAPER[1][::-1] + ((0, 0),))]),
+    (made_row, [[3, -1, 1]]),
+    (walk_turns, [(3, -1, 2), [(0, 1), (1, 3)]]),
 )
 # A call, what it is asked, and what is told: a list each time.
 ASKED = (
@@ -41,6 +57,12 @@ ASKED = (
     (clasp_by_clasp, [CUT, MIXED], [(1, 5), (0, 0)]),
     (read_deeds, ["0-4 5"], [(0, 4), (5, 5)]),
     (threads, [(0, 2, 1, 3), (1, 0, 2, 3)], [("odd", (0, 1, 2)), ("odd", (3,))]),
+    (nearer_deeds, [TIED, BARE], [(0, 0), (0, 2), (0, 3), (1, 2), (1, 3), (2, 3)]),
+    (fewest_deeds, [TIED, BARE], [(0, 0), (2, 3)]),
+    (works_on_way, [CLOSED, CUT], [CUT, CLOSED]),
+    (row_numbered, [TIED, BARE, 5], [(2, 3), (0, 0)]),
+    (walk_turns, [(3, -1, 2), [(0, 1), (1, 2)]], [(1, -3, 2), (1, -2, 3)]),
+    (turns_all, [2], [(0, 0), (0, 1), (1, 1)]),
 )
 # Calls that tell a text, a number or a tuple, which cannot be changed.
 TOLD = (
@@ -54,6 +76,13 @@ TOLD = (
     (deed_kind, [MIXED, (0, 4)], "closed"),
     (thread_score, [MIXED, CLOSED], 8),
     (apart_by, [MIXED, CLOSED], 1),
+    (paper_for, [TIED, BARE], PAPER),
+    (judged_paper, [TIED, BARE, PAPER], 2),
+    (fewest_many, [TIED, BARE], 6),
+    (on_way, [TIED, (0, 1, 2, 3), BARE], True),
+    (plain_row, [3], (1, 2, 3)),
+    (turn_about, [(3, -1, 2), 0, 1], (1, -3, 2)),
+    (row_seen, [(1, 2, 3), (3, -1, 2)], (-2, 3, 1)),
 )
 
 
