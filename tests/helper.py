@@ -7,6 +7,7 @@ import time
 import unittest
 
 from claspwork.laid import threads
+from claspwork.turns import plain_row, turn_about, turns_all
 
 FAR = 10 ** 59
 LOOSE = tuple(range(80))
@@ -32,6 +33,10 @@ CROSSING_SHAPES = [
     ([("bare", 5), ("tied", 1)], 35140), ([("bare", 1), ("tied", 5)], 35140), ([("bare", 2), ("tied", 4)], 35249),
     ([("bare", 2), ("bare", 2), ("tied", 2)], 21150),
 ]
+
+FORTY = tuple(range(1, 41))
+BACKWARD = tuple(range(-40, 0))
+EVERY_OTHER = tuple(number if number % 2 else -number for number in range(40, 0, -1))
 
 
 def all_works(staves):
@@ -188,20 +193,25 @@ def plain_deeds(work):
 kept_deeds = functools.lru_cache(maxsize=None)(plain_deeds)
 
 
-@functools.lru_cache(maxsize=None)
-def deeds_needed(start):
-    """How many deeds lead from a work to each work of its staves, found by trying."""
+def steps_needed(start, ways_on):
+    """How many steps lead from a start to each thing, found by trying; `ways_on` tells what one step leads to."""
     needed = {start: 0}
     fresh = [start]
     while fresh:
         behind = []
-        for work in fresh:
-            for onward in kept_deeds(work):
+        for thing in fresh:
+            for onward in ways_on(thing):
                 if onward not in needed:
-                    needed[onward] = needed[work] + 1
+                    needed[onward] = needed[thing] + 1
                     behind.append(onward)
         fresh = behind
     return needed
+
+
+@functools.lru_cache(maxsize=None)
+def deeds_needed(start):
+    """How many deeds lead from a work to each work of its staves, found by trying."""
+    return steps_needed(start, kept_deeds)
 
 
 def plain_nearer(one, other):
@@ -218,6 +228,115 @@ def plain_rows(one, other):
     for deed, behind in plain_nearer(one, other):
         rows += [[deed] + row for row in plain_rows(behind, other)]
     return sorted(rows)
+
+
+def all_rows(many):
+    """Every signed row of so many numbers."""
+    rows = []
+    for amounts in itertools.permutations(range(1, many + 1)):
+        for signs in itertools.product((1, -1), repeat=many):
+            rows.append(tuple(amount * sign for amount, sign in zip(amounts, signs)))
+    return rows
+
+
+def small_rows():
+    return [row for many in range(5) for row in all_rows(many)]
+
+
+def some_row(many, seed):
+    chance = random.Random(seed)
+    amounts = list(range(1, many + 1))
+    chance.shuffle(amounts)
+    return tuple(amount * chance.choice((1, -1)) for amount in amounts)
+
+
+def great_rows():
+    return [FORTY, BACKWARD, EVERY_OTHER] + [some_row(40, seed) for seed in range(6)]
+
+
+def edge_rows():
+    """No numbers, one, the plain row, the plain row turned about, and all numbers with a minus."""
+    rows = [(), (1,), (-1,)]
+    for many in (2, 16, 40):
+        rows += [tuple(range(1, many + 1)), tuple(range(-many, 0)), tuple(range(-1, -many - 1, -1))]
+        rows.append(tuple(-abs(number) for number in some_row(many, many)))
+    return rows
+
+
+def lifted(block, amount):
+    """The block with each of its amounts so much greater."""
+    return tuple(number + amount if number > 0 else number - amount for number in block)
+
+
+def kin_block(pattern, within=()):
+    """A whole stretch: the numbers of the pattern in a frame, for some of them whole stretches laid in.
+
+    A whole stretch is told as a tuple that begins with 1; `within` tells pairs of an amount and what is laid in for it.
+    """
+    blocks = {amount: (1,) for amount in range(1, len(pattern) + 1)}
+    blocks.update(within)
+    many = 1
+    for amount in sorted(blocks):
+        blocks[amount] = lifted(blocks[amount], many)
+        many += len(blocks[amount])
+    inner = []
+    for number in pattern:
+        block = blocks[abs(number)]
+        inner += block if number > 0 else [-turned for turned in reversed(block)]
+    return (1, *inner, many + 1)
+
+
+def glued(*blocks):
+    """One whole stretch of several, each of which begins where the one ahead of it ends."""
+    whole = (1,)
+    for block in blocks:
+        whole += lifted(block, len(whole) - 1)[1:]
+    return whole
+
+
+def block_row(block):
+    """The signed row that is this whole stretch when it is framed."""
+    return lifted(block[1:-1], -1)
+
+
+SHUT = kin_block(())
+KNOT = kin_block((2, 1))
+# Two knots, the one within the other, and three.
+DOUBLE = kin_block((2, 1), [(2, KNOT)])
+TRIPLE = kin_block((2, 1), [(2, DOUBLE)])
+# What stands in the frame of a kin; the first one is a shut gap.
+PATTERNS = (
+    (), (2, 1), (2, 1), (2, 1), (3, 2, 1), (2, 4, 1, 3), (3, 1, 2), (-1,), (-1,), (2, -1), (-2, 1), (-2, -1),
+    (-2, 4, -1, 3), (-1, -2),
+)
+
+
+def some_block(gaps, chance):
+    """A whole stretch with so many gaps, of kins within kins and behind one another."""
+    if gaps == 0:
+        return (1,)
+    pattern = chance.choice([pattern for pattern in PATTERNS if len(pattern) < gaps])
+    shares = [0] * (len(pattern) + 1)
+    for gap in range(gaps - len(pattern) - 1):
+        shares[chance.randrange(len(shares))] += 1
+    within = [(amount, some_block(share, chance)) for amount, share in enumerate(shares) if amount > 0]
+    return glued(kin_block(pattern, within), some_block(shares[0], chance))
+
+
+def nested_rows(many, rows):
+    """So many rows of so many numbers, made of kins within kins."""
+    return [block_row(some_block(many + 1, random.Random(seed))) for seed in range(rows)]
+
+
+def turned_rows(row):
+    """For each turn, ascending, the row behind it."""
+    return {turn: turn_about(row, *turn) for turn in turns_all(len(row))}
+
+
+@functools.lru_cache(maxsize=None)
+def turns_needed(many):
+    """How many turns lead each row of so many numbers to the plain one, found by trying."""
+    return steps_needed(plain_row(many), lambda row: turned_rows(row).values())
 
 
 def refusal_of(call, *handed):

@@ -11,6 +11,7 @@ from claspwork.journal import Journal, clasp_by_clasp, read_deeds, works_along
 from claspwork.laid import apart_by, thread_score, threads
 from claspwork.notes import read_work
 from claspwork.numbered import number_of_row, row_numbered
+from claspwork.turnrow import turns_between
 from claspwork.turns import made_row, row_seen, turn_about, walk_turns
 from claspwork.works import made_work, moved_work, work_by
 from tests.helper import FAR, LOOSE, OWN_RINGS, RefusingCase, refusal_of
@@ -80,7 +81,8 @@ class RefusalsOfEachStage(RefusingCase):
         asked += (nearer_deeds, fewest_deeds, paper_for, fewest_many, works_on_way)
         calls = [(call, (0, 1), ()) for call in asked]
         # Also where another refusal is due, which is told later.
-        calls += [(judged_paper, (0, 1), (), ((), ((FAR, 0),))), (on_way, (), (), (0, 1)), (row_seen, (), (1,))]
+        calls += [(judged_paper, (0, 1), (), ((), ((FAR, 0),))), (on_way, (), (), (0, 1))]
+        calls += [(row_seen, (), (1,)), (turns_between, (), (1,)), (turns_between, (-1, 2), (1,))]
         calls += [(row_numbered, LOOSE, (), -1), (number_of_row, LOOSE, (), [(-1, FAR)])]
         self.assert_all_refused(errors.Unlike, calls)
 

@@ -8,9 +8,12 @@ from claspwork.counted import fewest_many, on_way, works_on_way
 from claspwork.deeds import all_deeds, deed_back, deed_kind, deed_to, fits_work, reclasped, told_deed
 from claspwork.fewest import fewest_deeds, judged_paper, nearer_deeds, paper_for
 from claspwork.journal import Journal, clasp_by_clasp, deeds_text, read_deeds, works_along
+from claspwork.kins import framed, gap_kins, kin_spans, open_gaps, tie_gaps, tie_rings, ties_crossed
+from claspwork.knots import knot_cost, knot_ends, knot_legs, knots_in, turn_score
 from claspwork.laid import apart_by, thread_score, threads
 from claspwork.notes import read_work, work_text
 from claspwork.numbered import number_of_row, row_numbered
+from claspwork.turnrow import fewest_turns, good_turns, paper_good, paper_score, turn_paper, turns_between
 from claspwork.turns import made_row, plain_row, row_seen, turn_about, turns_all, walk_turns
 from claspwork.works import clasps_of, loose_ends, made_work, moved_work, plain_work, staves_in, work_by
 from tests.helper import MIXED, refusal_of
@@ -21,6 +24,9 @@ CUT = (4, 1, 6, 7, 0, 5, 2, 3, 9, 8)
 TIED = (1, 0, 2, 3)
 BARE = (0, 1, 3, 2)
 PAPER = ((("tied", (0, 1)), ("bare", (2, 3))), ((0, 0), (2, 3)))
+# A row with a knot within a knot, and its paper.
+KNOTTED = (2, 4, 3, 5, 1)
+TURN_PAPER = (6, ((0, 1, 5), (2, 3, 4)), ((0, 6), (1, 4)), (2, 2))
 
 # A call, what is handed in, and what is told.
 HANDED = (
@@ -45,6 +51,7 @@ REFUSED = (
     (judged_paper, [TIED, BARE, (PAPER[0], PAPER[1][::-1] + ((0, 0),))]),
     (made_row, [[3, -1, 1]]),
     (walk_turns, [(3, -1, 2), [(0, 1), (1, 3)]]),
+    (turns_between, [(3, -1, 2), (1, -2)]),
 )
 # A call, what it is asked, and what is told: a list each time.
 ASKED = (
@@ -63,6 +70,18 @@ ASKED = (
     (row_numbered, [TIED, BARE, 5], [(2, 3), (0, 0)]),
     (walk_turns, [(3, -1, 2), [(0, 1), (1, 2)]], [(1, -3, 2), (1, -2, 3)]),
     (turns_all, [2], [(0, 0), (0, 1), (1, 1)]),
+    (open_gaps, [(-1, 2)], [0, 1]),
+    (tie_gaps, [(-1, 2)], [(0, 1), (0, 1), (2, 2)]),
+    (ties_crossed, [(-1, 2)], [0, 1]),
+    (tie_rings, [(-1, 2)], [(0, 1), (2,)]),
+    (kin_spans, [(-1, 2)], [(0, 2), (2, 3)]),
+    (gap_kins, [(-1, 2)], [(0, 2), (0, 2), (2, 3)]),
+    (knots_in, [KNOTTED], [(0, 6), (1, 4)]),
+    (knot_ends, [KNOTTED], [(0, 6), (1, 4)]),
+    (knot_legs, [KNOTTED], [2, 2]),
+    (good_turns, [(3, -1, 2)], [(0, 1), (2, 2)]),
+    (fewest_turns, [(3, -1, 2)], [(0, 1), (1, 2), (1, 1)]),
+    (turns_between, [(3, -1, 2), (3, 1, 2)], [(1, 1)]),
 )
 # Calls that tell a text, a number or a tuple, which cannot be changed.
 TOLD = (
@@ -83,6 +102,12 @@ TOLD = (
     (plain_row, [3], (1, 2, 3)),
     (turn_about, [(3, -1, 2), 0, 1], (1, -3, 2)),
     (row_seen, [(1, 2, 3), (3, -1, 2)], (-2, 3, 1)),
+    (framed, [(-1, 2)], (0, -1, 2, 3)),
+    (knot_cost, [KNOTTED], 2),
+    (turn_score, [KNOTTED], 6),
+    (turn_paper, [KNOTTED], TURN_PAPER),
+    (paper_score, [TURN_PAPER], 6),
+    (paper_good, [KNOTTED, TURN_PAPER], True),
 )
 
 

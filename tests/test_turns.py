@@ -6,31 +6,7 @@ import unittest
 
 from claspwork.errors import BadRow, BadStretch, Unlike
 from claspwork.turns import made_row, plain_row, row_seen, turn_about, turns_all, walk_turns
-from tests.helper import FAR, RefusingCase
-
-FORTY = tuple(range(1, 41))
-BACKWARD = tuple(range(-40, 0))
-EVERY_OTHER = tuple(number if number % 2 else -number for number in range(40, 0, -1))
-
-
-def all_rows(many):
-    """Every signed row of so many numbers."""
-    rows = []
-    for amounts in itertools.permutations(range(1, many + 1)):
-        for signs in itertools.product((1, -1), repeat=many):
-            rows.append(tuple(amount * sign for amount, sign in zip(amounts, signs)))
-    return rows
-
-
-def some_row(many, seed):
-    chance = random.Random(seed)
-    amounts = list(range(1, many + 1))
-    chance.shuffle(amounts)
-    return tuple(amount * chance.choice((1, -1)) for amount in amounts)
-
-
-def great_rows():
-    return [FORTY, BACKWARD, EVERY_OTHER] + [some_row(40, seed) for seed in range(6)]
+from tests.helper import BACKWARD, FAR, FORTY, RefusingCase, all_rows, great_rows, some_row
 
 
 def plainly_turned(row, first, last):
